@@ -1,0 +1,10 @@
+"""What is answered to a call that is refused."""
+
+NO_CALL = -100
+OUT_OF_RANGE = -1
+TOO_MANY_SENSORS = -2
+POINTS_DO_NOT_RISE = -3
+COUNTS_DO_NOT_RISE = -4
+VALUES_DO_NOT_RISE = -5
+CORRECTION_TOO_LARGE = -6
+NO_LINE = -7
